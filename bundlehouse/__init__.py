@@ -1,0 +1,1 @@
+"""Bundlehouse: parts of programs packed for sending."""
