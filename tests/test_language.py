@@ -1,6 +1,7 @@
 """The package's own files keep to the small part of Python that they are written in.
 
-What a look at the syntax tree can tell of the rules L1 to L28 is asked here; the rest is left to the reader.
+Of the rules L1 to L28 only the simpler ones are looked at, some of them in part; L9, L11, L13, L18, L21 to L24, L26
+and L28 are not, and are left to the reader.
 """
 
 import ast
