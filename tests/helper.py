@@ -1,8 +1,157 @@
 """What several tests need."""
 
+import random
+
+from bundlehouse.texts import read
+
+NAMES = ("x", "y", "z", "v", "w")
+
 
 def kinds(value):
     """The kinds of a value and of all in it: True == 1, but their kinds are unlike."""
     if isinstance(value, tuple):
         return tuple(kinds(inner) for inner in value)
     return type(value)
+
+
+def parts_of(text):
+    """Parts from a text with one row a line, or several parted by commas."""
+    return read("\n".join(row.strip() for row in text.replace(",", "\n").strip().split("\n")))
+
+
+def any_sum(chance, names):
+    terms = []
+    for k in range(chance.choice((1, 1, 2, 3, 6))):
+        sign = chance.choice((1, -1)) if k else 1
+        terms.append((sign, chance.choice(names) if names and chance.random() < 0.7 else chance.randrange(4)))
+    return tuple(terms)
+
+
+def own_row(chance, own, names):
+    if chance.random() < 0.4:
+        return ("take", own)
+    return ("set", own, any_sum(chance, names))
+
+
+def reading_row(chance, names, others):
+    when = chance.choice(names) if names and chance.random() < 0.5 else None
+    kind = chance.choice(("say", "say", "need", "ask") if others else ("say", "need"))
+    if kind == "say":
+        return ("say", any_sum(chance, names), when)
+    if kind == "need":
+        return ("need", any_sum(chance, names)[:5] + ((1, 2),))
+    return ("ask", chance.choice(others), when)
+
+
+def bring_rows(chance, others, names, gives):
+    """Bring rows that bring in each of these names, and perhaps one more that brings in none."""
+    pairs = {}
+    for own in names:
+        other = chance.choice(others)
+        pairs.setdefault(other, []).append((chance.choice(gives[other]), own))
+    rows = [("bring", other, tuple(found)) for other, found in pairs.items()]
+    if others and chance.random() < 0.4:
+        rows.append(("bring", chance.choice(others), ()))
+    return rows
+
+
+def tame_rows(chance, part, below, others, gives, owns):
+    """Rows that read only names from above, and bring in only parts from below: no name is early but by asking."""
+    cut = chance.randrange(len(owns) + 1) if below else len(owns)
+    rows = bring_rows(chance, below, owns[cut:], gives)
+    known = owns[cut:]
+    for own in owns[:cut]:
+        rows.append(own_row(chance, own, list(known)))
+        known.append(own)
+    for number in range(chance.randrange(5)):
+        rows.append(reading_row(chance, owns, others))
+    return rows
+
+
+def wild_rows(chance, part, others, gives, owns):
+    cut = chance.randrange(len(owns) + 1) if others else len(owns)
+    rows = bring_rows(chance, others, owns[cut:], gives)
+    rows.extend(own_row(chance, own, owns) for own in owns[:cut])
+    rows.extend(reading_row(chance, owns, others) for number in range(chance.randrange(4)))
+    chance.shuffle(rows)
+    return rows
+
+
+def rows_by_chance(chance, part, all_parts, gives, tame):
+    others = [other for other in all_parts if other != part]
+    owns = list(chance.sample(NAMES, chance.randrange(1, len(NAMES) + 1)))
+    if tame:
+        rows = tame_rows(chance, part, all_parts[all_parts.index(part) + 1:], others, gives, owns)
+    else:
+        rows = wild_rows(chance, part, others, gives, owns)
+    for given in gives[part]:
+        rows.insert(chance.randrange(len(rows) + 1), ("give", chance.choice(owns), given))
+    return tuple(rows)
+
+
+def parts_by_chance(seed, most=6):
+    """Parts that stand the check but perhaps for Endless: the same for the same seed."""
+    chance = random.Random(seed)
+    all_parts = ["p" + str(k) for k in range(chance.randrange(1, most + 1))]
+    chance.shuffle(all_parts)
+    gives = {part: ["g" + str(k) for k in range(chance.randrange(1, 4))] for part in all_parts}
+    tame = chance.random() < 0.6
+    found = [(part, rows_by_chance(chance, part, all_parts, gives, tame)) for part in all_parts]
+    chance.shuffle(found)
+    return tuple(found)
+
+
+def slow_step(parts, part, name):
+    """Where a name comes from: its row, or the name of another part."""
+    rows = [rows for other, rows in parts if other == part][0]
+    for number, row in enumerate(rows):
+        if row[0] in ("set", "take") and row[1] == name:
+            return ("row", part, number)
+        for given, own in row[2] if row[0] == "bring" else ():
+            if own == name:
+                other = [inner for found, inner in parts if found == row[1]][0]
+                return ("name", row[1], [there[1] for there in other if there[0] == "give" and there[2] == given][0])
+
+
+def slow_maker(parts, part, name):
+    """The maker of a name, or None where it lies in a ring or leads to one."""
+    for count in range(1 + sum(len(rows) * 6 for other, rows in parts)):
+        kind, part, name = slow_step(parts, part, name)
+        if kind == "row":
+            return (part, name)
+    return None
+
+
+def slow_pairs(parts):
+    """All pairs of parts of which the first reaches the second, step by step until no more are found."""
+    pairs = {(part, part) for part, rows in parts}
+    pairs |= {(part, row[1]) for part, rows in parts for row in rows if row[0] in ("bring", "ask")}
+    while True:
+        more = {(one, third) for one, two in pairs for other, third in pairs if two == other}
+        if more <= pairs:
+            return pairs
+        pairs |= more
+
+
+def owned(rows):
+    names = [row[1] for row in rows if row[0] in ("set", "take")]
+    return names + [own for row in rows if row[0] == "bring" for given, own in row[2]]
+
+
+def is_endless(parts):
+    return any(slow_maker(parts, part, name) is None for part, rows in parts for name in owned(rows))
+
+
+def sound_parts(count, most=6):
+    """So many seeds' parts, those that stand the check alone."""
+    found = [parts_by_chance(seed, most) for seed in range(count)]
+    return [parts for parts in found if not is_endless(parts)]
+
+
+def hold_untouched(case, told):
+    """The parts handed in stay as they are, and what is told of them hangs on nothing that was asked before."""
+    all_parts = sound_parts(60)
+    before = repr(all_parts)
+    first = [told(parts) for parts in all_parts]
+    case.assertEqual(repr(all_parts), before)
+    case.assertEqual([told(parts) for parts in all_parts[::-1]][::-1], first)

@@ -1,7 +1,7 @@
 """The package's own files keep to the small part of Python that they are written in.
 
-Of the rules L1 to L28 only the simpler ones are looked at, some of them in part; L9, L11, L13, L18, L21 to L24, L26
-and L28 are not, and are left to the reader.
+Of the rules L1 to L28 only the simpler ones are looked at, some of them in part; L9, L11, L13, L22, L26 and L28 are
+not, and are left to the reader.
 """
 
 import ast
@@ -159,11 +159,85 @@ def value_faults(node):
             yield ("L20", line)
 
 
+def annotation_faults(node):
+    if isinstance(node, ast.AnnAssign) or getattr(node, "returns", None) or getattr(node, "annotation", None):
+        yield ("L21", getattr(node, "lineno", 0))
+
+
+def local_faults(tree):
+    """Locals and parameters called like a class or an import of the file."""
+    taken = [node.name for node in tree.body if isinstance(node, ast.ClassDef)]
+    for node in tree.body:
+        if isinstance(node, ast.ImportFrom):
+            taken.extend(alias.name for alias in node.names)
+    for top in tree.body:
+        for node in ast.walk(top):
+            if node is not top and any(name in taken for name in bound_names(node)) and not is_method(top, node):
+                yield ("L15", node.lineno)
+
+
+def is_method(top, node):
+    return isinstance(top, ast.ClassDef) and node in top.body
+
+
+def is_walker(node):
+    if not isinstance(node, ast.Call):
+        return False
+    if isinstance(node.func, ast.Attribute):
+        return node.func.attr in ("items", "keys", "values")
+    return isinstance(node.func, ast.Name) and node.func.id in ("zip", "enumerate", "reversed", "range")
+
+
+def walked_on_the_spot(node):
+    """What a node walks itself, at once."""
+    if isinstance(node, (ast.For, ast.comprehension)):
+        return [node.iter]
+    if isinstance(node, ast.Call) and isinstance(node.func, ast.Name) and node.args:
+        if node.func.id in ("list", "tuple", "dict", "sorted", "sum", "any", "all", "enumerate"):
+            return node.args[:1]
+        if node.func.id == "zip" or (node.func.id in ("min", "max") and len(node.args) == 1):
+            return node.args
+    if isinstance(node, ast.Call) and isinstance(node.func, ast.Attribute) and node.func.attr == "join":
+        return node.args
+    return []
+
+
+def walk_faults(tree):
+    walked = [inner for node in ast.walk(tree) for inner in walked_on_the_spot(node)]
+    for node in ast.walk(tree):
+        if is_walker(node) and node not in walked:
+            yield ("L23", node.lineno)
+        if isinstance(node, ast.Set):
+            yield ("L24", node.lineno)
+
+
+def set_faults(tree):
+    """Sets that are kept: made in an assignment, a return or a loop."""
+    for node in ast.walk(tree):
+        value = getattr(node, "iter" if isinstance(node, ast.For) else "value", None)
+        if isinstance(node, (ast.Assign, ast.Return, ast.For)) and isinstance(value, ast.Call):
+            if isinstance(value.func, ast.Name) and value.func.id in ("set", "frozenset"):
+                yield ("L24", node.lineno)
+
+
+def methods_and_values(tree):
+    methods, values = [], []
+    for top in tree.body:
+        if isinstance(top, ast.ClassDef):
+            methods.extend(node.name for node in top.body if isinstance(node, ast.FunctionDef))
+    for node in ast.walk(tree):
+        if isinstance(node, ast.Attribute) and isinstance(node.ctx, ast.Store):
+            values.append(node.attr)
+    return methods, values
+
+
 def faults(source):
     tree = ast.parse(source)
-    found = list(text_faults(source)) + list(top_faults(tree))
+    found = list(text_faults(source))
+    for part in (top_faults, local_faults, walk_faults, set_faults):
+        found.extend(part(tree))
     for node in ast.walk(tree):
-        for part in (import_faults, def_faults, name_faults, statement_faults, value_faults):
+        for part in (import_faults, def_faults, name_faults, statement_faults, value_faults, annotation_faults):
             found.extend(part(node))
     return found
 
@@ -194,6 +268,16 @@ class Files(unittest.TestCase):
                 for alias in node.names:
                     self.assertIn(alias.name, own, name)
 
+    def test_no_name_is_a_method_here_and_a_value_there(self):
+        methods, values = [], []
+        for source in sources().values():
+            found = methods_and_values(ast.parse(source))
+            methods.extend(found[0])
+            values.extend(found[1])
+        self.assertIn("rows_of", methods)
+        self.assertIn("number", values)
+        self.assertEqual(set(methods) & set(values), set())
+
     def test_no_files_draw_from_one_another(self):
         left = {name: [node.module.partition(".")[2] + ".py" for node in drawn_from(source)]
                 for name, source in sources().items()}
@@ -213,6 +297,12 @@ class TheLookItself(unittest.TestCase):
             "def f(x):\n    return 2 ** x\n", "def f(x):\n    return chr(x)\n", "def f(x):\n    a = b = x\n",
             "def f():\n" + "    pass\n" * 40, "x = '" + "a" * 120 + "'\n", "# type\n", "x = '\u00e9'\n", "#\t\n",
             "def f(x):\n    try:\n        return x\n    except Exception:\n        return 1\n",
+            "def f(x: int):\n    return x\n", "def f(x) -> int:\n    return x\n", "x: int = 1\n",
+            "from bundlehouse.rows import read_row\ndef f(read_row):\n    return 1\n",
+            "class A:\n    pass\ndef f():\n    A = 1\n", "def f(x):\n    return zip(x, x)\n",
+            "def f(x):\n    x.extend(reversed(x))\n", "def f(x):\n    y = x.items()\n",
+            "def f(x):\n    return {1, x}\n",
+            "def f(x):\n    y = set(x)\n", "def f(x):\n    for y in set(x):\n        return y\n",
         )
         for source in wrong:
             with self.subTest(source):
@@ -223,6 +313,9 @@ class TheLookItself(unittest.TestCase):
             "", '"""Words."""\n', "from bundlehouse.rows import read_row\n", "X = (1, 'a', None)\n",
             "def f(x, y=1):\n    return [a for a in x if a is not None]\n", "class A(ValueError):\n    pass\n",
             "def f(x):\n    for a, b in enumerate(x):\n        x = x + [a * b]\n    return x\n",
+            "def f(x):\n    return list(reversed([a for a, b in x.items()]))\n",
+            "def f(x, y):\n    return x in set(y)\n",
+            "from bundlehouse.net import makers\nclass A:\n    def makers(self, x):\n        return makers(x)\n",
         )
         for source in right:
             with self.subTest(source):
