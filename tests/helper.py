@@ -2,9 +2,12 @@
 
 import random
 
-from bundlehouse.texts import read
+from bundlehouse.rows import read_names
+from bundlehouse.texts import read, shown
 
 NAMES = ("x", "y", "z", "v", "w")
+FIGURED = ("x", "x2", "x3", "x22", "x23", "y", "y2")
+WORK = ("set", "take", "say", "need", "ask")
 
 
 def kinds(value):
@@ -122,10 +125,10 @@ def slow_maker(parts, part, name):
     return None
 
 
-def slow_pairs(parts):
-    """All pairs of parts of which the first reaches the second, step by step until no more are found."""
+def slow_pairs(parts, steps=("bring", "ask")):
+    """All pairs of parts of which the first comes to the second by these rows, until no more are found."""
     pairs = {(part, part) for part, rows in parts}
-    pairs |= {(part, row[1]) for part, rows in parts for row in rows if row[0] in ("bring", "ask")}
+    pairs |= {(part, row[1]) for part, rows in parts for row in rows if row[0] in steps}
     while True:
         more = {(one, third) for one, two in pairs for other, third in pairs if two == other}
         if more <= pairs:
@@ -146,6 +149,88 @@ def sound_parts(count, most=6):
     """So many seeds' parts, those that stand the check alone."""
     found = [parts_by_chance(seed, most) for seed in range(count)]
     return [parts for parts in found if not is_endless(parts)]
+
+
+def places(text):
+    """The places of a text like "a0 b12": part a, row 0, and part b, row 12."""
+    return [(word[0], int(word[1:])) for word in text.split()]
+
+
+def slow_sure(parts, pairs, part, number, name):
+    for row in dict(parts)[part][:number]:
+        if row[0] in ("set", "take") and row[1] == name:
+            return True
+        if row[0] == "bring" and name in [own for given, own in row[2]]:
+            return not ((part, row[1]) in pairs and (row[1], part) in pairs)
+    return False
+
+
+def slow_loud(parts, pairs, part, number):
+    row = dict(parts)[part][number]
+    return row[0] != "set" or not all(slow_sure(parts, pairs, part, number, name) for word, name in read_names(row))
+
+
+def slow_kept(parts, beginnings):
+    """All kept rows, with whether each is loud, until no more are found."""
+    pairs = slow_pairs(parts)
+    kept = {}
+    for part, rows in parts:
+        if any((one, part) in pairs for one in beginnings):
+            for number, row in enumerate(rows):
+                if row[0] in WORK and slow_loud(parts, pairs, part, number):
+                    kept[(part, number)] = True
+    while True:
+        more = set()
+        for part, number in kept:
+            for word, name in read_names(dict(parts)[part][number]):
+                more.add(slow_maker(parts, part, name))
+        if more <= set(kept):
+            return kept
+        kept.update((place, False) for place in more - set(kept))
+
+
+def largest():
+    """As many parts of as many rows as may be, each bringing in what the one below gives."""
+    parts = []
+    for k in range(24):
+        rows = [("give", "x" + str(n), "g" + str(n)) for n in range(6)]
+        if k < 23:
+            rows.append(("bring", "p" + str(k + 1), tuple(("g" + str(n), "y" + str(n)) for n in range(6))))
+        else:
+            rows.extend(("take", "y" + str(n)) for n in range(6))
+        rows.extend(("set", "x" + str(n), tuple((1, "y" + str(m)) for m in range(6))) for n in range(6))
+        while len(rows) < 40:
+            rows.append(("say", tuple((1, "x" + str(m)) for m in range(6)), "y0"))
+        parts.append(("p" + str(k), tuple(rows)))
+    return tuple(parts)
+
+
+def figured(parts, seed):
+    """The same parts with other names of their own, many of them with figures at the end."""
+    chance = random.Random(seed)
+    lines = []
+    for part in parts:
+        others = dict(zip(NAMES, chance.sample(FIGURED, len(NAMES))))
+        for line in shown((part,)).split("\n"):
+            lines.append(" ".join(others.get(word, word) for word in line.split(" ")))
+    return read("\n".join(lines))
+
+
+def without_asks(parts):
+    return tuple((part, tuple(row for row in rows if row[0] != "ask")) for part, rows in parts)
+
+
+def told_numbers(seed):
+    """Several tuples of told numbers, the same for the same seed."""
+    chance = random.Random(seed)
+    return ((),) + tuple(tuple(chance.randrange(-3, 6) for k in range(length)) for length in (1, 3, 12))
+
+
+def led_back(told, places):
+    """What a run tells, with other places: a dict from (PART, row) to (PART, row)."""
+    deeds, fault = told
+    found = tuple(deed[:2] + places[deed[2:]] for deed in deeds)
+    return (found, fault and fault[:1] + places[fault[1:3]] + fault[3:])
 
 
 def hold_untouched(case, told):

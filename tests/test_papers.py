@@ -1,13 +1,14 @@
 import itertools
 import unittest
 
-from helper import hold_untouched, kinds, parts_of, slow_maker, slow_pairs, sound_parts
+from helper import (
+    WORK, hold_untouched, kinds, largest, parts_of, places, slow_kept, slow_loud, slow_maker, slow_pairs, slow_sure,
+    sound_parts,
+)
 
 from bundlehouse.net import check
 from bundlehouse.papers import loud, papers, sure
 from bundlehouse.rows import read_names
-
-WORK = ("set", "take", "say", "need", "ask")
 
 # Whether a name is sure at a row of the part a: the row's number, the name, whether it is.
 SURE = (
@@ -113,43 +114,6 @@ KEPT = (
 )
 
 
-def places(text):
-    return [(word[0], int(word[1:])) for word in text.split()]
-
-
-def slow_sure(parts, pairs, part, number, name):
-    for row in dict(parts)[part][:number]:
-        if row[0] in ("set", "take") and row[1] == name:
-            return True
-        if row[0] == "bring" and name in [own for given, own in row[2]]:
-            return not ((part, row[1]) in pairs and (row[1], part) in pairs)
-    return False
-
-
-def slow_loud(parts, pairs, part, number):
-    row = dict(parts)[part][number]
-    return row[0] != "set" or not all(slow_sure(parts, pairs, part, number, name) for word, name in read_names(row))
-
-
-def slow_kept(parts, beginnings):
-    """All kept rows, with whether each is loud, until no more are found."""
-    pairs = slow_pairs(parts)
-    kept = {}
-    for part, rows in parts:
-        if any((one, part) in pairs for one in beginnings):
-            for number, row in enumerate(rows):
-                if row[0] in WORK and slow_loud(parts, pairs, part, number):
-                    kept[(part, number)] = True
-    while True:
-        more = set()
-        for part, number in kept:
-            for word, name in read_names(dict(parts)[part][number]):
-                more.add(slow_maker(parts, part, name))
-        if more <= set(kept):
-            return kept
-        kept.update((place, False) for place in more - set(kept))
-
-
 class Sure(unittest.TestCase):
     def test_each_case(self):
         for row, name, expected, text in SURE:
@@ -249,22 +213,6 @@ class Papers(unittest.TestCase):
         told = papers(parts, tuple(part for part, rows in parts[:12]))
         self.assertEqual(len(told), len(set(told)))
         self.assertEqual(len(told), sum(1 for part, rows in parts for row in rows if row[0] in WORK))
-
-
-def largest():
-    """As many parts of as many rows as may be, each bringing in what the one below gives."""
-    parts = []
-    for k in range(24):
-        rows = [("give", "x" + str(n), "g" + str(n)) for n in range(6)]
-        if k < 23:
-            rows.append(("bring", "p" + str(k + 1), tuple(("g" + str(n), "y" + str(n)) for n in range(6))))
-        else:
-            rows.extend(("take", "y" + str(n)) for n in range(6))
-        rows.extend(("set", "x" + str(n), tuple((1, "y" + str(m)) for m in range(6))) for n in range(6))
-        while len(rows) < 40:
-            rows.append(("say", tuple((1, "x" + str(m)) for m in range(6)), "y0"))
-        parts.append(("p" + str(k), tuple(rows)))
-    return tuple(parts)
 
 
 def told(parts):
