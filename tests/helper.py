@@ -1,13 +1,15 @@
 """What several tests need."""
 
+import itertools
 import random
 
-from bundlehouse.rows import read_names
+from bundlehouse.rows import read_names, read_row
 from bundlehouse.texts import read, shown
 
 NAMES = ("x", "y", "z", "v", "w")
 FIGURED = ("x", "x2", "x3", "x22", "x23", "y", "y2")
 WORK = ("set", "take", "say", "need", "ask")
+WAYS = ("tight", "one", "cheapest")
 
 
 def kinds(value):
@@ -20,6 +22,25 @@ def kinds(value):
 def parts_of(text):
     """Parts from a text with one row a line, or several parted by commas."""
     return read("\n".join(row.strip() for row in text.replace(",", "\n").strip().split("\n")))
+
+
+def packs_of(text):
+    """Packs parted by strokes, their rows by commas: "part a, do b | part b, say 1"."""
+    return tuple(tuple(read_row(row.strip()) for row in pack.split(",")) for pack in text.split("|") if pack.strip())
+
+
+def origins_of(text):
+    """Origins of a text like "a a0 a3 | b b12": two heads, rows 0 and 3 of part a, row 12 of part b."""
+    return tuple(
+        tuple((word[0], int(word[1:]) if word[1:] else None) for word in pack.split())
+        for pack in text.split("|") if pack.strip()
+    )
+
+
+def loads_of(text):
+    """Loads of a text like "a 0 1, b 2"."""
+    words = [piece.split() for piece in text.split(",")]
+    return tuple((piece[0], tuple(int(word) for word in piece[1:])) for piece in words)
 
 
 def any_sum(chance, names):
@@ -214,6 +235,23 @@ def figured(parts, seed):
         for line in shown((part,)).split("\n"):
             lines.append(" ".join(others.get(word, word) for word in line.split(" ")))
     return read("\n".join(lines))
+
+
+def some_beginnings(parts):
+    """Several tuples of beginnings: each part alone, some pairs, all parts."""
+    names = [part for part, rows in parts]
+    return list(itertools.permutations(names, 1)) + list(itertools.permutations(names, 2))[:8] + [tuple(names)]
+
+
+def all_cuts(numbers):
+    """All ways to lay these numbers together."""
+    if not numbers:
+        return [()]
+    found = []
+    for cut in all_cuts(numbers[:-1]):
+        found.append(cut + (numbers[-1:],))
+        found.extend(cut[:k] + (cut[k] + numbers[-1:],) + cut[k + 1:] for k in range(len(cut)))
+    return found
 
 
 def without_asks(parts):

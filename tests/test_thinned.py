@@ -1,9 +1,8 @@
-import itertools
 import unittest
 
 from helper import (
-    WORK, hold_untouched, kinds, largest, led_back, parts_of, slow_kept, slow_maker, slow_pairs, sound_parts,
-    told_numbers,
+    WORK, hold_untouched, kinds, largest, led_back, parts_of, slow_kept, slow_maker, slow_pairs, some_beginnings,
+    sound_parts, told_numbers,
 )
 
 from bundlehouse.net import check
@@ -158,11 +157,6 @@ def numbers_of(text):
     """The numbers of a text like "a 0 2, b": two rows of part a, none of b."""
     words = [piece.split() for piece in text.split(",")]
     return tuple((piece[0], tuple(int(word) for word in piece[1:])) for piece in words)
-
-
-def some_beginnings(parts):
-    names = [part for part, rows in parts]
-    return list(itertools.permutations(names, 1)) + list(itertools.permutations(names, 2))[:8] + [tuple(names)]
 
 
 class Live(unittest.TestCase):
