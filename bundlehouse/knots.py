@@ -9,7 +9,10 @@ def reach(parts, some):
 
 
 def knots(parts):
-    onward = steps(parts)
+    return knots_in(steps(parts))
+
+
+def knots_in(onward):
     backward = turned(onward)
     found = []
     for part in onward:

@@ -162,6 +162,14 @@ def brings(parts, part):
     return named_parts(parts, part, "bring")
 
 
+# From each part, in the parts' order, to those that it brings in.
+def bringings(parts):
+    onward = {}
+    for part, rows in parts:
+        onward[part] = brings(parts, part)
+    return onward
+
+
 def asks(parts, part):
     return named_parts(parts, part, "ask")
 

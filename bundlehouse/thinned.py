@@ -1,7 +1,7 @@
 """Thinned parts: what is left of parts where only kept rows, and what leads to them, stay."""
 
 from bundlehouse.knots import reach, spread, turned
-from bundlehouse.net import brings, makers
+from bundlehouse.net import bringings, makers
 from bundlehouse.papers import papers
 
 
@@ -19,10 +19,7 @@ def kept_places(parts, beginnings):
 # A part that only asks for one with a kept row is not live by that, so the
 # way back from the kept rows is one of bring rows alone.
 def live_parts(parts, beginnings, kept):
-    onward = {}
-    for part, rows in parts:
-        onward[part] = brings(parts, part)
-    found = spread(turned(onward), [part for part, number in kept])
+    found = spread(turned(bringings(parts)), [part for part, number in kept])
     return tuple([part for part in reach(parts, beginnings) if part in found])
 
 

@@ -2,6 +2,7 @@
 
 import itertools
 import random
+import re
 
 from bundlehouse.rows import read_names, read_row
 from bundlehouse.texts import read, shown
@@ -41,6 +42,17 @@ def loads_of(text):
     """Loads of a text like "a 0 1, b 2"."""
     words = [piece.split() for piece in text.split(",")]
     return tuple((piece[0], tuple(int(word) for word in piece[1:])) for piece in words)
+
+
+def line_of(text, origin):
+    """The number of a row in the text of parts, by counting the rows behind its part's head."""
+    lines = text.split("\n")
+    return lines.index("part " + origin[0]) + (0 if origin[1] is None else 1 + origin[1])
+
+
+def starts_in(text):
+    """Where the words of a row's text begin."""
+    return [found.start() for found in re.finditer("[^ ]+", text)]
 
 
 def any_sum(chance, names):
@@ -123,6 +135,25 @@ def parts_by_chance(seed, most=6):
     found = [(part, rows_by_chance(chance, part, all_parts, gives, tame)) for part in all_parts]
     chance.shuffle(found)
     return tuple(found)
+
+
+def net_by_chance(seed, most=8):
+    """Parts with bring and ask rows alone, some of them more than once: the same for the same seed."""
+    chance = random.Random(seed)
+    names = ["p" + str(k) for k in range(chance.randrange(1, most + 1))]
+    chance.shuffle(names)
+    density = chance.choice((1, 1, 2, 3, 4)) if len(names) > 1 else 0
+    parts = []
+    for part in names:
+        others = [other for other in names if other != part]
+        rows = [("bring", chance.choice(others), ()) for k in range(chance.randrange(density + 1))]
+        rows += [("ask", chance.choice(others), None) for k in range(chance.randrange(density + 1))]
+        parts.append((part, tuple(chance.sample(rows, len(rows)))))
+    return tuple(parts)
+
+
+def slow_bringings(parts):
+    return sorted({(part, row[1]) for part, rows in parts for row in rows if row[0] == "bring"})
 
 
 def slow_step(parts, part, name):

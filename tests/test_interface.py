@@ -18,6 +18,10 @@ FUNCTIONS = {
     "cuts": "price(groups,toll,cut) tight(groups) single(groups) cheapest(groups,toll) table(groups,toll)",
     "bundles": "bundle(parts,beginnings,toll=4,way='cheapest')",
     "play": "play(bundle,root,numbers,ahead=False)",
+    "codes": "coded(map_of_packs) decoded(texts)",
+    "maps": "map_of(parts,bundle) back(map_of_packs,pack,row,column)",
+    "layers": "read_layers(text) broken(parts,folders,rules)",
+    "rings": "tangles(parts) ring_table(parts,tangle) fewest(parts)",
 }
 CLASSES = {
     ("run", "Walk"): "()",

@@ -258,10 +258,11 @@ RUNS = (
 
 
 class RunAlike(unittest.TestCase):
-    def hold_alike(self, parts, beginnings, numbers):
-        thin, kept = thinned(parts, beginnings)
+    def hold_alike(self, parts, left, beginnings, numbers):
+        thin, kept = left
+        places = places_of(kept)
         told = [run(parts, root, numbers) for root in beginnings]
-        self.assertEqual([led_back(run(thin, root, numbers), places_of(kept)) for root in beginnings], told)
+        self.assertEqual([led_back(run(thin, root, numbers), places) for root in beginnings], told)
         return told
 
     def test_each_case(self):
@@ -269,16 +270,18 @@ class RunAlike(unittest.TestCase):
             with self.subTest(text=text, numbers=numbers):
                 parts = parts_of(text)
                 self.assertIsNone(check(parts))
-                self.assertNotEqual(thinned(parts, tuple(beginnings))[0], parts)
-                self.assertEqual(self.hold_alike(parts, tuple(beginnings), numbers)[0][1], fault)
+                left = thinned(parts, tuple(beginnings))
+                self.assertNotEqual(left[0], parts)
+                self.assertEqual(self.hold_alike(parts, left, tuple(beginnings), numbers)[0][1], fault)
 
     def test_by_chance(self):
         faults = []
         for seed, parts in enumerate(sound_parts(400)):
             for beginnings in some_beginnings(parts):
+                left = thinned(parts, beginnings)
                 for numbers in told_numbers(seed):
-                    told = self.hold_alike(parts, beginnings, numbers)
-                    if thinned(parts, beginnings)[0] != parts:
+                    told = self.hold_alike(parts, left, beginnings, numbers)
+                    if left[0] != parts:
                         faults.extend(fault and fault[0] for deeds, fault in told)
         for kind in (None, "early", "need"):
             self.assertGreater(faults.count(kind), 100, kind)
@@ -287,8 +290,9 @@ class RunAlike(unittest.TestCase):
         parts = largest()
         self.assertIsNone(check(parts))
         beginnings = tuple(part for part, rows in parts[:12])
-        self.assertEqual(thinned(parts, beginnings), slow_thinned(parts, beginnings))
-        self.hold_alike(parts, beginnings, (1, 2, 3, 4, 5, 6))
+        left = thinned(parts, beginnings)
+        self.assertEqual(left, slow_thinned(parts, beginnings))
+        self.hold_alike(parts, left, beginnings, (1, 2, 3, 4, 5, 6))
 
 
 def told(parts):

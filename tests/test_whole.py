@@ -1,20 +1,23 @@
-"""The whole promise: from each beginning the packs do what the parts do."""
+"""The whole promise: from each beginning the packs do what the parts do, and a map leads each word back."""
 
 import unittest
 
 from helper import (
-    WAYS, WORK, all_cuts, figured, largest, led_back, parts_of, slow_kept, slow_loud, slow_maker, slow_pairs,
-    some_beginnings, sound_parts, told_numbers,
+    WAYS, WORK, all_cuts, figured, largest, led_back, line_of, parts_of, slow_kept, slow_loud, slow_maker, slow_pairs,
+    some_beginnings, sound_parts, starts_in, told_numbers,
 )
 
 from bundlehouse.bundles import bundle
+from bundlehouse.codes import coded, decoded
 from bundlehouse.cuts import price, single, tight
 from bundlehouse.groups import groups, roots
+from bundlehouse.maps import back, map_of
 from bundlehouse.net import check
 from bundlehouse.papers import loud
 from bundlehouse.play import play
-from bundlehouse.rows import read_names
+from bundlehouse.rows import read_names, shown_row
 from bundlehouse.run import run
+from bundlehouse.texts import read, shown
 from bundlehouse.thinned import thinned
 
 # Beginnings, told numbers, the fault or None, parts.
@@ -113,6 +116,82 @@ class DoAlike(unittest.TestCase):
         for way in WAYS:
             laid = bundle(parts, ("p0", "p5"), 4, way)
             self.assertEqual(self.hold_alike(parts, ("p0", "p5"), laid, numbers), [None, None])
+
+
+class LedBackByTheMap(unittest.TestCase):
+    """Written, read, bundled, played; what is done is led back to the word of the text at which it is due."""
+
+    def hold(self, text, beginnings, way, numbers):
+        parts = read(text)
+        self.assertEqual(shown(parts), text)
+        laid = bundle(parts, beginnings, 3, way)
+        leading = decoded(coded(map_of(parts, laid)))
+        self.assertEqual(leading, map_of(parts, laid))
+        faults = []
+        for root in beginnings:
+            told = run(parts, root, numbers)
+            for ahead in (False, True):
+                self.hold_deeds(text, laid, leading, without_loads(play(laid, root, numbers, ahead)), told)
+            faults.append(told[1] and told[1][0])
+        return faults
+
+    def hold_deeds(self, text, laid, leading, played, told):
+        self.assertEqual([deed[:2] for deed in played[0]], [deed[:2] for deed in told[0]])
+        for (kind, value, pack, row), (same, number, part, old) in zip(played[0], told[0]):
+            self.assertEqual(self.word_at(text, back(leading, pack, row, 0)), kind)
+            self.assertEqual(back(leading, pack, row, 0), (line_of(text, (part, old)), 0))
+        if told[1] is None:
+            self.assertIsNone(played[1])
+        else:
+            kind, pack, row, word = played[1]
+            same, part, number, there = told[1]
+            self.assertEqual(kind, same)
+            line = line_of(text, (part, number))
+            place = back(leading, pack, row, starts_in(shown_row(laid[0][pack][row]))[word])
+            self.assertEqual(place, (line, starts_in(text.split("\n")[line])[there]))
+            self.assertEqual(self.word_at(text, place), text.split("\n")[line].split(" ")[there])
+
+    def word_at(self, text, place):
+        return text.split("\n")[place[0]][place[1]:].split(" ")[0]
+
+    def test_each_case(self):
+        for beginnings, numbers, fault, case in WHOLE:
+            for way in WAYS:
+                with self.subTest(case=case, way=way):
+                    faults = self.hold(shown(parts_of(case)), tuple(beginnings), way, numbers)
+                    self.assertEqual(faults[0], fault and fault[0])
+
+    def test_by_chance(self):
+        faults = []
+        for seed, parts in enumerate(all_parts()[::2]):
+            for beginnings in some_beginnings(parts)[::4] + [tuple(part for part, rows in parts)]:
+                for way in WAYS:
+                    faults.extend(self.hold(shown(parts), beginnings, way, told_numbers(seed)[-1]))
+        for kind in (None, "early", "need"):
+            self.assertGreater(faults.count(kind), 100, kind)
+
+    def test_a_fault_at_a_name_that_is_longer_in_the_pack(self):
+        text = shown(parts_of("part a, take x, bring b g as y, say 1 + x - y,"
+                              "part b, bring a, need y + x, take x, give x as g, set y = 1"))
+        self.assertEqual(self.hold(text, ("a", "b"), "one", (3,)), ["early", "early"])
+        parts = read(text)
+        laid = bundle(parts, ("a", "b"), 3, "one")
+        trace, fault = play(laid, "b", (3,))
+        self.assertEqual(shown_row(laid[0][0][fault[2]]), "say 1 + x - x2")
+        self.assertEqual(fault, ("early", 0, 3, 5))
+        self.assertEqual(back(map_of(parts, laid), 0, 3, 12), (3, 12))
+
+    def test_each_word_of_a_pack(self):
+        for parts in all_parts()[::3]:
+            text = shown(parts)
+            laid = bundle(parts, tuple(part for part, rows in parts))
+            leading = decoded(coded(map_of(parts, laid)))
+            for pack, (rows, origins) in enumerate(zip(laid[0], laid[1])):
+                for number, (row, origin) in enumerate(zip(rows, origins)):
+                    line = line_of(text, origin)
+                    olds = starts_in(text.split("\n")[line])
+                    for word, column in enumerate(starts_in(shown_row(row))):
+                        self.assertEqual(back(leading, pack, number, column), (line, olds[word]))
 
 
 class WhatLiesInPacks(unittest.TestCase):
